@@ -1,0 +1,1 @@
+"""Seedreach: like stretches of rows, found by seeds that lose none."""
