@@ -22,6 +22,17 @@ def worth_of(likes, scale):
     return gain * likes.count(LIKE) - loss * likes.count(UNLIKE)
 
 
+def greatest_worth(likes, scale):
+    """The greatest worth of a stretch of likes, which have one pair at least."""
+    ending = 0
+    worths = []
+    for pair in likes:
+        # What is worth less than 0 is better left out ahead of the pair.
+        ending = max(0, ending) + worth_of(pair, scale)
+        worths.append(ending)
+    return max(worths)
+
+
 def ripe(likes, scale):
     """The ripe stretches of likes as (begin, end), ascending.
 
@@ -71,13 +82,25 @@ def _last_below(parts, low):
     return at
 
 
+def lane_reaches(one, other, shift, scale, told):
+    """The ripe stretches of a lane that are worth told at least, as (begin, end, worth), ascending.
+
+    The places are those of the first row.
+    """
+    likes = likes_of(one, other, shift)
+    first = lane_begin(shift)
+    found = []
+    for begin, end in ripe(likes, scale):
+        worth = worth_of(likes[begin:end], scale)
+        if worth >= told:
+            found.append((first + begin, first + end, worth))
+    return found
+
+
 def reaches(one, other, scale, told):
     """The ripe stretches of all lanes of two rows that are worth told at least, ascending."""
     found = []
     for shift in range(1 - len(one), len(other)):
-        likes = likes_of(one, other, shift)
-        first = lane_begin(shift)
-        for begin, end in ripe(likes, scale):
-            if worth_of(likes[begin:end], scale) >= told:
-                found.append((shift, first + begin, first + end))
+        for begin, end, _ in lane_reaches(one, other, shift, scale, told):
+            found.append((shift, begin, end))
     return found

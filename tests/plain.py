@@ -41,13 +41,97 @@ def plain_likes(one, other, shift):
     return "".join("=" if one[p] == other[q] else "/" for p, q in plain_pairs(one, other, shift))
 
 
+def plain_lane_reaches(one, other, shift, scale, told):
+    """The ripe stretches of one lane that are worth told at least."""
+    places = [p for p, _ in plain_pairs(one, other, shift)]
+    likes = plain_likes(one, other, shift)
+    return [(shift, places[begin], places[end - 1] + 1) for begin, end in plain_ripe(likes, scale)
+            if plain_worth(likes[begin:end], scale) >= told]
+
+
 def plain_reaches(one, other, scale, told):
     """The ripe stretches of every lane, also of those far out, that are worth told at least."""
-    found = []
     far = len(one) + len(other) + 2
-    for shift in range(-far, far + 1):
-        places = [p for p, _ in plain_pairs(one, other, shift)]
-        likes = plain_likes(one, other, shift)
-        found += [(shift, places[begin], places[end - 1] + 1) for begin, end in plain_ripe(likes, scale)
-                  if plain_worth(likes[begin:end], scale) >= told]
+    return sorted(stretch for shift in range(-far, far + 1)
+                  for stretch in plain_lane_reaches(one, other, shift, scale, told))
+
+
+def plain_fits(seed, likes, place):
+    """Place by place: each one under the seed is one of the likes, and like where a # is over it."""
+    return all(0 <= place + at < len(likes) and (sign == "-" or likes[place + at] == "=")
+               for at, sign in enumerate(seed))
+
+
+def plain_seeded(seeds, likes):
+    """Whether a seed fits at any place, also tried where it lies partly outside."""
+    return any(plain_fits(seed, likes, place) for seed in seeds for place in range(-1, len(likes) + 1))
+
+
+def free_texts(seeds, most):
+    """Every text of none to most pairs in which no seed fits; shorter ones first, = ahead of /."""
+    texts = [""]
+    ends = [""]
+    for _ in range(most):
+        # None is left out: in what stands ahead of the last pair no seed fits either.
+        ends = [text + pair for text in ends for pair in "=/" if not plain_seeded(seeds, text + pair)]
+        texts += ends
+    return texts
+
+
+def is_ring(seeds, ring, often):
+    """Whether no seed fits in the ring, so often in a row."""
+    return not plain_seeded(seeds, ring * often)
+
+
+def plain_windows(rows, seeds):
+    """Every seed over every place of every row; kept where it lies within the row."""
+    found = []
+    for seed_number, seed in enumerate(seeds):
+        for number, row in enumerate(rows):
+            for place in range(len(row)):
+                under = row[place:place + len(seed)]
+                if len(under) == len(seed):
+                    picked = "".join(sign for sign, over in zip(under, seed) if over == "#")
+                    found.append((seed_number, picked, number, place))
     return sorted(found)
+
+
+def plain_find(rows, row, scale, told):
+    """What is reached with each of the rows, over all lanes."""
+    found = []
+    for number, laid in enumerate(rows):
+        for shift, begin, end in plain_reaches(row, laid, scale, told):
+            worth = plain_worth(plain_likes(row, laid, shift)[begin - max(0, -shift):end - max(0, -shift)], scale)
+            found.append((number, shift, begin, end, worth))
+    return sorted(found)
+
+
+def named_windows(names, seeds):
+    """The windows of a row each place of which has a name of its own, by the names under them, gaps too."""
+    return {(number, tuple(names[place:place + len(seed)])) for number, seed in enumerate(seeds)
+            for place in range(len(names)) if place + len(seed) <= len(names)}
+
+
+def plain_counts(before, behind, seeds):
+    """How many windows there are no more, and how many are new; of rows of names."""
+    old, new = named_windows(before, seeds), named_windows(behind, seeds)
+    return len(old - new), len(new - old)
+
+
+def plain_lane(one, other, shift, seeds, scale, told):
+    """What lane tells, where told is more than the bar."""
+    pairs = plain_pairs(one, other, shift)
+    likes = plain_likes(one, other, shift)
+    rows = plain_lane_reaches(one, other, shift, scale, told)
+    if rows:
+        return ("reaches", rows)
+    if plain_seeded(seeds, likes):
+        return ("low", max(plain_worth(likes[begin:end], scale) for begin in range(len(likes))
+                           for end in range(begin + 1, len(likes) + 1)))
+    unlike = []
+    for seed in seeds:
+        for place in range(len(likes)):
+            under = pairs[place:place + len(seed)]
+            if len(under) == len(seed):
+                unlike.append([p for (p, q), sign in zip(under, seed) if sign == "#" and one[p] != other[q]][0])
+    return ("unseeded", unlike)
