@@ -17,14 +17,14 @@ def lane(one, other, shift, seeds, scale, told):
         return (REACHES, rows)
     likes = likes_of(one, other, shift)
     if not is_seeded(seeds, likes):
-        return (UNSEEDED, _first_unlike(seeds, likes, lane_begin(shift)))
+        return (UNSEEDED, [places[0] for places in unlike_places(seeds, likes, lane_begin(shift))])
     return (LOW, greatest_worth(likes, scale))
 
 
-def _first_unlike(seeds, likes, first):
-    """For each seed and each place at which it lies, the first place of an unlike pair under a #.
+def unlike_places(seeds, likes, first):
+    """For each seed and each place at which it lies, the places of the unlike pairs under a #, rising.
 
-    The likes, in which no seed fits, begin at place first of the first row.
+    The likes begin at place first of the first row.
     """
-    return [first + unlike_under(seed, likes, place)[0]
+    return [[first + at for at in unlike_under(seed, likes, place)]
             for seed in seeds for place in range(len(likes) - len(seed) + 1)]

@@ -1,6 +1,8 @@
-"""The document's sentences, walked through plainly, to hold the program's answers against."""
+"""The document's sentences, walked through plainly, to hold the program's answers against; and what tests share."""
 
 from itertools import product
+
+from seedreach.shelf import Shelf
 
 
 def all_texts(signs, most):
@@ -120,7 +122,6 @@ def plain_counts(before, behind, seeds):
 
 def plain_lane(one, other, shift, seeds, scale, told):
     """What lane tells, where told is more than the bar."""
-    pairs = plain_pairs(one, other, shift)
     likes = plain_likes(one, other, shift)
     rows = plain_lane_reaches(one, other, shift, scale, told)
     if rows:
@@ -128,10 +129,92 @@ def plain_lane(one, other, shift, seeds, scale, told):
     if plain_seeded(seeds, likes):
         return ("low", max(plain_worth(likes[begin:end], scale) for begin in range(len(likes))
                            for end in range(begin + 1, len(likes) + 1)))
-    unlike = []
+    return ("unseeded", [places[0] for places in plain_under(one, other, shift, seeds)])
+
+
+def plain_under(one, other, shift, seeds):
+    """For each seed, over each place of the lane where it lies within it, all places that are unlike under a #."""
+    pairs = plain_pairs(one, other, shift)
+    found = []
     for seed in seeds:
-        for place in range(len(likes)):
+        for place in range(len(pairs)):
             under = pairs[place:place + len(seed)]
             if len(under) == len(seed):
-                unlike.append([p for (p, q), sign in zip(under, seed) if sign == "#" and one[p] != other[q]][0])
-    return ("unseeded", unlike)
+                found.append([p for (p, q), sign in zip(under, seed) if sign == "#" and one[p] != other[q]])
+    return found
+
+
+def plain_shows(one, other, shift, seeds, scale, told, paper):
+    """Each form by its own sentence, where told is more than the bar."""
+    form, claim = paper
+    likes = plain_likes(one, other, shift)
+    if form == "reaches":
+        return claim != [] and claim == plain_lane_reaches(one, other, shift, scale, told)
+    if form == "unseeded":
+        under = plain_under(one, other, shift, seeds)
+        return len(claim) == len(under) and all(claim[k] in under[k] for k in range(len(under)))
+    return plain_seeded(seeds, likes) and claim < told and not any(
+        plain_worth(likes[begin:end], scale) > claim for begin in range(len(likes))
+        for end in range(begin + 1, len(likes) + 1))
+
+
+def plain_bound(one, other, scale):
+    """Gain for each sign of the one that is taken out of the other, as long as there are some."""
+    signs = list(other)
+    worth = 0
+    for sign in one:
+        if sign in signs:
+            signs.remove(sign)
+            worth += scale[0]
+    return worth
+
+
+def plain_three(rows, scale, told):
+    """What pairs tells, from a walk over all lanes of each two rows."""
+    found, left, rest = [], [], []
+    for j in range(len(rows)):
+        for i in range(j):
+            worths = [stretch[4] for stretch in plain_find([rows[j]], rows[i], scale, told)]
+            if worths:
+                found.append((i, j, max(worths)))
+            elif plain_bound(rows[i], rows[j], scale) < told:
+                left.append((i, j, plain_bound(rows[i], rows[j], scale)))
+            else:
+                rest.append((i, j))
+    return sorted(found), sorted(left), sorted(rest)
+
+
+def shelf_of(rows, seeds, scale=(1, 1), letters="abc"):
+    """A shelf on which the rows are laid."""
+    shelf = Shelf(letters, scale, seeds)
+    for row in rows:
+        shelf.lay(row)
+    return shelf
+
+
+class Named:
+    """A row each place of which has a name of its own, that no other ever has."""
+
+    def __init__(self, row):
+        self.signs = list(row)
+        self.names = list(range(len(row)))
+        self.next = len(row)
+
+    def do(self, deed, place, sign):
+        """Do the deed on signs and names; tell the names as they were."""
+        before = list(self.names)
+        if deed == "put":
+            self.signs.insert(place, sign)
+            self.names.insert(place, self.next)
+        elif deed == "cut":
+            del self.signs[place], self.names[place]
+        else:
+            self.signs[place] = sign
+            self.names[place] = self.next
+        self.next += 1
+        return before
+
+
+def do(shelf, deed, number, place, sign):
+    """Do a deed on a shelf."""
+    return shelf.cut(number, place) if deed == "cut" else getattr(shelf, deed)(number, place, sign)

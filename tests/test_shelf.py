@@ -9,8 +9,8 @@ from seedreach.errors import BadRow, BadSeed, NoPlace, NoRow, ReachError, TooLow
 from seedreach.seeds import bar
 from seedreach.shelf import Shelf
 from seedreach.worths import reaches
-from tests.plain import (all_texts, plain_counts, plain_find, plain_likes, plain_pairs, plain_reaches, plain_seeded,
-                         plain_windows)
+from tests.plain import (Named, all_texts, do, plain_counts, plain_find, plain_likes, plain_pairs, plain_reaches,
+                         plain_seeded, plain_windows, shelf_of)
 
 FAR = 10 ** 30
 SEVEN = ("abcabc", "", "cab", "a", "bbabcacb", "ccccc", "acbacbacba")
@@ -18,14 +18,6 @@ SEVEN = ("abcabc", "", "cab", "a", "bbabcacb", "ccccc", "acbacbacba")
 BARRED = ((["##"], (1, 1)), (["##"], (2, 3)), (["#-#"], (1, 1)), (["###"], (1, 2)), (["#"], (3, 2)),
           (["##", "#-#"], (1, 1)), (["##-#", "#-##"], (1, 2)), (["#-#", "##", "#-#"], (2, 5)), (["#--#"], (1, 3)),
           (["########", "#-#"], (1, 1)), (["#---#", "###", "#----#"], (7, 5)))
-
-
-def shelf_of(rows, seeds, scale=(1, 1), letters="abc"):
-    """A shelf on which the rows are laid."""
-    shelf = Shelf(letters, scale, seeds)
-    for row in rows:
-        shelf.lay(row)
-    return shelf
 
 
 class Made(unittest.TestCase):
@@ -364,34 +356,6 @@ class DeedsByHand(unittest.TestCase):
         for told in (shelf.change(0, 1, "a"), shelf.put(0, 3, "a"), shelf.cut(0, 0), shelf.change(0, 0, "a")):
             self.assertIs(told.__class__, tuple)
             self.assertEqual([part.__class__ for part in told], [int, int])
-
-
-class Named:
-    """A row each place of which has a name of its own, that no other ever has."""
-
-    def __init__(self, row):
-        self.signs = list(row)
-        self.names = list(range(len(row)))
-        self.next = len(row)
-
-    def do(self, deed, place, sign):
-        """Do the deed on signs and names; tell the names as they were."""
-        before = list(self.names)
-        if deed == "put":
-            self.signs.insert(place, sign)
-            self.names.insert(place, self.next)
-        elif deed == "cut":
-            del self.signs[place], self.names[place]
-        else:
-            self.signs[place] = sign
-            self.names[place] = self.next
-        self.next += 1
-        return before
-
-
-def do(shelf, deed, number, place, sign):
-    """Do a deed on a shelf."""
-    return shelf.cut(number, place) if deed == "cut" else getattr(shelf, deed)(number, place, sign)
 
 
 class DeedsAgainstAPlainWalk(unittest.TestCase):
